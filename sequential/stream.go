@@ -42,7 +42,7 @@ func validSpanned(length, block int) bool {
 	return block >= leastSpanned && spanned.Valid(length, block)
 }
 
-// each makes a function that unpacks blocks of one that unpacks a single block.
+// each makes, from a function that unpacks one block, a function that unpacks any number of them.
 func each(one func(length, block int, data string) ([]string, api.Errno)) func(int, int, ...string) ([]string, api.Errno) {
 	return func(length, block int, blocks ...string) ([]string, api.Errno) {
 		var records []string
